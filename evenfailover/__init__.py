@@ -1,0 +1,1 @@
+"""Preference lists that share shards exactly evenly."""

@@ -1,0 +1,55 @@
+"""Which numbers of lists an even table can have."""
+
+
+def is_plain_int(thing):
+    """Return whether a value is an integer in the document's sense."""
+    return isinstance(thing, int) and not isinstance(thing, bool)
+
+
+def binomial(n, k):
+    """Return the number of k-element subsets of n things."""
+    if k < 0 or k > n:
+        return 0
+    result = 1
+    # The row is the same from both ends; the nearer end takes fewer steps.
+    for step in range(1, min(k, n - k) + 1):
+        # The product is binomial(n, step) * step, so the division is exact.
+        result = result * (n + 1 - step) // step
+    return result
+
+
+def edge_divisor(n, size):
+    """Return the number of level numbers at the level `size`."""
+    return n * binomial(n - 1, size)
+
+
+def greatest_divisor(a, b):
+    """Return the greatest common divisor of two integers from 0."""
+    while b > 0:
+        a, b = b, a % b
+    return a
+
+
+def least_multiple(a, b):
+    """Return the least common multiple of two integers from 0, which is 0 if one of them is."""
+    divisor = greatest_divisor(a, b)
+    if divisor == 0:
+        return 0
+    return a // divisor * b
+
+
+def least_lists(n, depth):
+    """Return the least number of lists of an even table whose reach is `depth`."""
+    least = 1
+    for size in range(depth):
+        least = least_multiple(least, edge_divisor(n, size))
+    return least
+
+
+def is_possible(n, depth, count):
+    """Return whether an even table whose reach is `depth` can have `count` lists."""
+    if not is_plain_int(count) or count <= 0:
+        return False
+    least = least_lists(n, depth)
+    # A depth above n has no level numbers at some level, and the least number is 0 there.
+    return least > 0 and count % least == 0

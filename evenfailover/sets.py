@@ -1,0 +1,55 @@
+"""Sets of servers and their numbers among the sets of one size."""
+
+from evenfailover.errors import NoNumber
+from evenfailover.numbers import binomial, is_plain_int
+
+
+def is_set(n, thing):
+    """Return whether a value is an ascending tuple of servers."""
+    if not isinstance(thing, tuple):
+        return False
+    least = 0
+    for server in thing:
+        if not is_plain_int(server) or server < least or server >= n:
+            return False
+        least = server + 1
+    return True
+
+
+def set_at(n, size, number):
+    """Return the set of this size with this number."""
+    if not is_plain_int(number) or number < 0 or number >= binomial(n, size):
+        raise NoNumber(number)
+    members = []
+    rest = number
+    for server in range(n):
+        # Of the sets that begin with the members so far, those with this server come first.
+        many = binomial(n - server - 1, size - len(members) - 1)
+        if rest < many:
+            members.append(server)
+        else:
+            rest -= many
+    return tuple(members)
+
+
+def set_number(n, members):
+    """Return the number of a set among those of its size."""
+    number = 0
+    found = 0
+    for server in range(n):
+        if found < len(members) and members[found] == server:
+            found += 1
+        else:
+            # The sets that have this server at this point come before the set.
+            number += binomial(n - server - 1, len(members) - found - 1)
+    return number
+
+
+def outside(n, members):
+    """Return the set of all servers that are not in `members`."""
+    taken = set(members)
+    others = []
+    for server in range(n):
+        if server not in taken:
+            others.append(server)
+    return tuple(others)

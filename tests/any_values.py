@@ -1,0 +1,17 @@
+"""Values for the arguments that may be any value."""
+
+
+def nested(depth):
+    """Return a value of lists, tuples and dicts that is nested so deep."""
+    value = 0
+    for level in range(depth):
+        value = ([value], (value,), {"a": value})[level % 3]
+    return value
+
+
+def not_integers():
+    """Return new values, none of which is an integer."""
+    return [
+        True, False, None, "", "0", "1", "12", (), (0,), (1, 2), [], [0], [12], {}, {0: 1},
+        {"count": 12}, ((0, 1), (1, 0)), [[0], (1, [None])], nested(20),
+    ]
