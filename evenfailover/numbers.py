@@ -1,5 +1,7 @@
 """Which numbers of lists an even table can have."""
 
+from evenfailover.errors import NoNumber, NotPossible
+
 
 def is_plain_int(thing):
     """Return whether a value is an integer in the document's sense."""
@@ -53,3 +55,15 @@ def is_possible(n, depth, count):
     least = least_lists(n, depth)
     # A depth above n has no level numbers at some level, and the least number is 0 there.
     return least > 0 and count % least == 0
+
+
+def check_possible(n, depth, count):
+    """Raise NotPossible if no even table whose reach is `depth` can have `count` lists."""
+    if not is_possible(n, depth, count):
+        raise NotPossible(count)
+
+
+def check_number(value, many):
+    """Raise NoNumber if a value is not the number of one of `many` things."""
+    if not is_plain_int(value) or value < 0 or value >= many:
+        raise NoNumber(value)

@@ -1,7 +1,6 @@
 """Sets of servers and their numbers among the sets of one size."""
 
-from evenfailover.errors import NoNumber
-from evenfailover.numbers import binomial, is_plain_int
+from evenfailover.numbers import binomial, check_number, is_plain_int
 
 
 def is_set(n, thing):
@@ -18,8 +17,7 @@ def is_set(n, thing):
 
 def set_at(n, size, number):
     """Return the set of this size with this number."""
-    if not is_plain_int(number) or number < 0 or number >= binomial(n, size):
-        raise NoNumber(number)
+    check_number(number, binomial(n, size))
     members = []
     rest = number
     for server in range(n):
@@ -53,3 +51,16 @@ def outside(n, members):
         if server not in taken:
             others.append(server)
     return tuple(others)
+
+
+def sets_among(servers, size):
+    """Return the list of all sets of this size that an ascending tuple of servers contains, ascending."""
+    beginnings = [((), 0)]
+    for missing in range(size, 0, -1):
+        longer = []
+        for members, start in beginnings:
+            # Only beginnings that enough servers can follow: so there are never more than sets.
+            for index in range(start, len(servers) - missing + 1):
+                longer.append((members + (servers[index],), index + 1))
+        beginnings = longer
+    return [members for members, start in beginnings]

@@ -9,14 +9,10 @@ import unittest
 from any_values import nested, not_integers
 from evenfailover import sets
 from evenfailover.errors import NoNumber
-from evenfailover.sets import is_set, outside, set_at, set_number
+from evenfailover.sets import is_set, outside, set_at, set_number, sets_among
+from reference import sets_of
 
 SMALL = range(2, 9)
-
-
-def sets_of(n, size):
-    """Return all sets of this size in ascending order, found without the program."""
-    return sorted(itertools.combinations(range(n), size))
 
 
 def large_sets():
@@ -208,6 +204,19 @@ class Outside(unittest.TestCase):
             self.assertIs(is_set(n, others), True)
             self.assertEqual(sorted(members + others), list(range(n)))
             self.assertEqual(outside(n, others), members)
+
+
+class SetsAmong(unittest.TestCase):
+    def test_all_small_sets(self):
+        for n in SMALL:
+            for servers in sets_of(n, n // 2) + sets_of(n, n):
+                for size in range(n + 2):
+                    expected = sorted(itertools.combinations(servers, size))
+                    self.assertEqual(sets_among(servers, size), expected, (servers, size))
+
+    def test_few_sets_of_many_servers(self):
+        for size in (1, 2, 58, 59, 60):
+            self.assertEqual(sets_among(tuple(range(60)), size), sets_of(60, size))
 
 
 class Interface(unittest.TestCase):
