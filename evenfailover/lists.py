@@ -1,10 +1,21 @@
 """The lists of the standard table by their numbers, and their numbers by their places."""
 
-from evenfailover.numbers import binomial, check_number, check_possible, edge_divisor
+from evenfailover.numbers import binomial, check_number, check_possible
 
 
-def follow(n, count, sizes, servers, rest):
-    """Return the servers that are taken at these sizes, in order, and the rest after them.
+def level_widths(n, depth, count):
+    """Return count / edge_divisor(n, size) for all sizes below the depth."""
+    widths = []
+    edges = n
+    for size in range(depth):
+        widths.append(count // edges)
+        # From n * binomial(n - 1, size) to the next one, which is not worked out anew.
+        edges = edges * (n - 1 - size) // (size + 1)
+    return widths
+
+
+def follow(widths, servers, rest):
+    """Return the servers that are taken one after the other, and the rest after them.
 
     The rule of the standard table reads the same in both directions. Forward a server is taken
     from those outside the set and joins the set; backward it is taken from the set and joins
@@ -12,19 +23,19 @@ def follow(n, count, sizes, servers, rest):
     """
     left = list(servers)
     taken = []
-    for size in sizes:
-        width = count // edge_divisor(n, size)
+    for width in widths:
         index = rest // width
         server = left.pop(index)
         taken.append(server)
-        # `index` of the servers below this one are where it comes from, the others where it goes.
-        rest = width * (server - index) + rest % width
+        # `index` of the servers below this one are where it comes from, the others where it goes:
+        # the rest loses width * index and gains width * (server - index).
+        rest += width * (server - index - index)
     return tuple(taken), rest
 
 
 def path(n, depth, count, number):
     """Return list number `number` of the standard table and its rest after all its servers."""
-    return follow(n, count, list(range(depth)), list(range(n)), number)
+    return follow(level_widths(n, depth, count), list(range(n)), number)
 
 
 def list_at(n, depth, count, number):
@@ -48,7 +59,8 @@ def number_at(n, count, members, rest):
     size = len(members)
     check_possible(n, size, count)
     check_number(rest, count // binomial(n, size))
-    taken, number = follow(n, count, list(reversed(range(size))), members, rest)
+    widths = level_widths(n, size, count)
+    taken, number = follow(list(reversed(widths)), members, rest)
     return number
 
 
@@ -59,16 +71,21 @@ def numbers_with(n, count, beginning):
     # All lists with the same beginning have moved equally far: each rest is the number plus `moved`.
     moved = 0
     left = list(range(n))
-    for size, server in enumerate(beginning):
-        if server not in left:
+    taken = set()
+    for server, width in zip(beginning, level_widths(n, len(beginning), count)):
+        if server < 0 or server >= n or server in taken:
             return None
-        width = count // edge_divisor(n, size)
+        taken.add(server)
         index = left.index(server)
-        first = max(first, width * index - moved)
-        end = min(end, width * (index + 1) - moved)
+        left.pop(index)
+        # The rests from width * index on, `width` of them, lead to this server.
+        low = width * index - moved
+        if first < low:
+            first = low
+        if end > low + width:
+            end = low + width
         if first >= end:
             return None
         # From the index outside the set to the index inside it, as in `follow`.
         moved += width * (server - index - index)
-        left.remove(server)
     return first, end - first

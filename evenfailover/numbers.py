@@ -40,21 +40,33 @@ def least_multiple(a, b):
     return a // divisor * b
 
 
+def level_parts(n, depth):
+    """Return integers whose common multiples are those of edge_divisor(n, size), sizes below the depth.
+
+    1 / edge_divisor(n, size) is 1 / edge_divisor(n - 1, size - 1) minus 1 / edge_divisor(n, size - 1).
+    So these fractions are sums and differences of 1 / n, 1 / (n - 1), .., 1 / (n - size), and
+    these are sums of those: a number that makes the ones whole makes the others whole. Above n
+    a depth has a level without level numbers, and 0 is among the integers there, too.
+    """
+    return list(range(n, n - depth, -1))
+
+
 def least_lists(n, depth):
     """Return the least number of lists of an even table whose reach is `depth`."""
     least = 1
-    for size in range(depth):
-        least = least_multiple(least, edge_divisor(n, size))
+    for part in level_parts(n, depth):
+        least = least_multiple(least, part)
     return least
 
 
 def is_possible(n, depth, count):
     """Return whether an even table whose reach is `depth` can have `count` lists."""
-    if not is_plain_int(count) or count <= 0:
+    if not is_plain_int(count) or count <= 0 or depth > n:
         return False
-    least = least_lists(n, depth)
-    # A depth above n has no level numbers at some level, and the least number is 0 there.
-    return least > 0 and count % least == 0
+    for part in level_parts(n, depth):
+        if count % part != 0:
+            return False
+    return True
 
 
 def check_possible(n, depth, count):

@@ -17,16 +17,20 @@ def is_set(n, thing):
 
 def set_at(n, size, number):
     """Return the set of this size with this number."""
-    check_number(number, binomial(n, size))
+    # How many sets have the members so far, and for the rest servers that are left.
+    many = binomial(n, size)
+    check_number(number, many)
     members = []
     rest = number
     for server in range(n):
-        # Of the sets that begin with the members so far, those with this server come first.
-        many = binomial(n - server - 1, size - len(members) - 1)
-        if rest < many:
+        # Every server that is left is in equally many of these sets; those with this one come first.
+        first = many * (size - len(members)) // (n - server)
+        if rest < first:
             members.append(server)
+            many = first
         else:
-            rest -= many
+            rest -= first
+            many -= first
     return tuple(members)
 
 
@@ -34,12 +38,16 @@ def set_number(n, members):
     """Return the number of a set among those of its size."""
     number = 0
     found = 0
+    many = binomial(n, len(members))
     for server in range(n):
+        # As in `set_at`: so many of the sets that are left have this server, and come before the others.
+        first = many * (len(members) - found) // (n - server)
         if found < len(members) and members[found] == server:
             found += 1
+            many = first
         else:
-            # The sets that have this server at this point come before the set.
-            number += binomial(n - server - 1, len(members) - found - 1)
+            number += first
+            many -= first
     return number
 
 

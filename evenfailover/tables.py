@@ -1,7 +1,7 @@
 """Tables of lists: which values are tables, the standard table, and which servers hold the shards."""
 
 from evenfailover.errors import TooMany, TooShort
-from evenfailover.lists import path
+from evenfailover.lists import follow, level_widths
 from evenfailover.numbers import check_possible, is_plain_int
 from evenfailover.sets import sets_among
 
@@ -35,9 +35,11 @@ def standard_table(n, depth, count):
     check_possible(n, depth, count)
     if count > MOST_LISTS:
         raise TooMany(count)
+    widths = level_widths(n, depth, count)
+    servers = list(range(n))
     table = []
     for number in range(count):
-        order, rest = path(n, depth, count, number)
+        order, rest = follow(widths, servers, number)
         table.append(order)
     return tuple(table)
 

@@ -1,40 +1,65 @@
-"""Point [2]: the functions of stages 1 to 3 and the formulas of stage 7 take at most some ten thousand steps."""
+"""Point [2]: the functions of stages 1 to 3 and the formulas of stage 7 take at most some ten thousand steps.
+
+The document does not say what a step is: the bound holds for the rows that are run and for the
+instructions of the interpreter.
+"""
 
 import math
-import sys
 import unittest
 
 from evenfailover.counts import copied_to, found_at, held_by_server, held_by_set
+from evenfailover.errors import FailoverError
 from evenfailover.lists import list_at, number_at, numbers_with, place_at
 from evenfailover.numbers import binomial, edge_divisor, is_possible, least_lists
 from evenfailover.sets import is_set, outside, set_at, set_number
 from reference import great_numbers, least
+from stepping import LIMIT, steps
 
-LIMIT = 20000
+DEPTHS = (1, 2, 29, 30, 31, 59, 60)
 
 
-def lines_run(function, arguments):
-    """Return how many lines a call runs, those of the functions that it calls included."""
-    many = 0
+def counts_of(depth):
+    """Return possible counts for 60 servers: the least, one between, the greatest of forty digits."""
+    one = least(60, depth)
+    greatest = (10 ** 40 - 1) // one * one
+    return sorted({one, 7 * one, greatest // 2 // one * one, greatest})
 
-    def note(frame, event, detail):
-        nonlocal many
-        if event == "line":
-            many += 1
-        return note
 
-    before = sys.gettrace()
-    sys.settrace(note)
-    try:
-        function(*arguments)
-    finally:
-        sys.settrace(before)
-    return many
+def some_numbers(count):
+    """Return a few of the numbers below the count, the ends among them."""
+    found = great_numbers(count)
+    return sorted({found[0], found[1], found[len(found) // 2], found[-2], found[-1]})
+
+
+class Counting(unittest.TestCase):
+    def test_rows_and_instructions_are_counted(self):
+        def three(limit):
+            total = 0
+            for number in range(limit):
+                total += number
+            return total
+
+        few = steps(three, (10,))
+        many = steps(three, (1010,))
+        # Two rows, and some instructions each, for each round more.
+        self.assertEqual(many[0] - few[0], 2000)
+        self.assertGreaterEqual(many[1] - few[1], 4000)
 
 
 class Steps(unittest.TestCase):
     def assert_few_steps(self, function, *arguments):
-        self.assertLess(lines_run(function, arguments), LIMIT, (function, arguments))
+        rows, instructions = steps(function, arguments)
+        self.assertGreater(rows, 0)
+        self.assertLessEqual(rows, LIMIT, (function.__name__, arguments))
+        self.assertLessEqual(instructions, LIMIT, (function.__name__, arguments))
+
+    def assert_few_steps_to_an_error(self, function, *arguments):
+        def attempt():
+            with self.assertRaises(FailoverError):
+                function(*arguments)
+
+        # The rows of assertRaises count as well, and are few.
+        self.assert_few_steps(attempt)
 
     def test_numbers(self):
         for k in range(61):
@@ -44,38 +69,67 @@ class Steps(unittest.TestCase):
         for n in (58, 59, 60):
             for depth in range(1, n + 1):
                 self.assert_few_steps(least_lists, n, depth)
-        self.assert_few_steps(is_possible, 60, 60, 10 ** 40 - 1)
+        for depth in DEPTHS:
+            for count in counts_of(depth):
+                self.assert_few_steps(is_possible, 60, depth, count)
+                self.assert_few_steps(is_possible, 60, depth, count + 1)
+                self.assert_few_steps(is_possible, 60, depth, count // 2)
 
     def test_sets(self):
         for size in range(61):
             many = math.comb(60, size)
-            for number in (0, many // 2, many - 1):
+            for number in sorted({0, many // 3, many // 2, many - 1}):
                 self.assert_few_steps(set_at, 60, size, number)
                 members = set_at(60, size, number)
                 self.assert_few_steps(set_number, 60, members)
                 self.assert_few_steps(outside, 60, members)
                 self.assert_few_steps(is_set, 60, members)
+            self.assert_few_steps_to_an_error(set_at, 60, size, many)
 
     def test_lists(self):
-        for depth in (1, 2, 29, 30, 31, 59, 60):
-            one = least(60, depth)
-            for count in (one, (10 ** 40 - 1) // one * one):
-                for number in great_numbers(count):
+        for depth in DEPTHS:
+            for count in counts_of(depth):
+                for number in some_numbers(count):
                     self.assert_few_steps(list_at, 60, depth, count, number)
                     self.assert_few_steps(place_at, 60, depth, count, number)
+                    self.assert_few_steps(numbers_with, 60, count, list_at(60, depth, count, number))
                     members, rest = place_at(60, depth, count, number)
                     self.assert_few_steps(number_at, 60, count, members, rest)
-                    self.assert_few_steps(numbers_with, 60, count, list_at(60, depth, count, number))
+                self.assert_few_steps(number_at, 60, count, tuple(range(depth)), 0)
+                self.assert_few_steps(number_at, 60, count, tuple(range(60 - depth, 60)), 0)
+                self.assert_few_steps(numbers_with, 60, count, tuple(range(depth)))
+                self.assert_few_steps(numbers_with, 60, count, tuple(range(depth))[::-1])
 
-    def test_counts(self):
-        count = (10 ** 40 - 1) // least(60, 60) * least(60, 60)
-        for alive in (2, 30, 31, 59, 60):
-            for factor in sorted({1, alive // 2, alive - 1}):
-                self.assert_few_steps(held_by_set, 60, count, alive, factor)
-                self.assert_few_steps(held_by_server, 60, count, alive, factor)
+    def test_lists_with_errors(self):
+        for depth in DEPTHS:
+            for count in counts_of(depth):
+                for wrong in (count + 1, count - 1):
+                    self.assert_few_steps_to_an_error(list_at, 60, depth, wrong, 0)
+                    self.assert_few_steps_to_an_error(place_at, 60, depth, wrong, 0)
+                    self.assert_few_steps_to_an_error(number_at, 60, wrong, tuple(range(depth)), 0)
+                    self.assert_few_steps_to_an_error(numbers_with, 60, wrong, tuple(range(depth)))
+                self.assert_few_steps_to_an_error(list_at, 60, depth, count, count)
+                self.assert_few_steps_to_an_error(place_at, 60, depth, count, count)
+                self.assert_few_steps_to_an_error(number_at, 60, count, tuple(range(depth)), count)
+
+    def test_formulas(self):
+        for depth in DEPTHS:
+            for alive in range(60 - depth + 1, 61):
+                # The depth that the formulas need: n - alive + factor.
+                factor = depth - 60 + alive
+                if alive % 7 == 4 or factor in (1, depth // 2, depth):
+                    self.check_formulas(depth, alive, factor)
+
+    def check_formulas(self, depth, alive, factor):
+        for count in counts_of(depth):
+            self.assert_few_steps(held_by_set, 60, count, alive, factor)
+            self.assert_few_steps(held_by_server, 60, count, alive, factor)
+            for index in sorted({0, factor - 1, (factor + depth) // 2, depth - 1, 59}):
+                self.assert_few_steps(found_at, 60, count, alive, factor, index)
+            self.assert_few_steps_to_an_error(held_by_set, 60, count + 1, alive, factor)
+        if factor < alive:
+            for count in counts_of(depth + 1):
                 self.assert_few_steps(copied_to, 60, count, alive, factor)
-                for index in range(0, 60, 7):
-                    self.assert_few_steps(found_at, 60, count, alive, factor, index)
 
 
 if __name__ == "__main__":
