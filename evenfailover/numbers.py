@@ -69,6 +69,11 @@ def is_possible(n, depth, count):
     return True
 
 
+def reach_of(n, failures, factor):
+    """Return how many servers of a list matter for so many failures and this factor."""
+    return min(n, failures + factor)
+
+
 def check_possible(n, depth, count):
     """Raise NotPossible if no even table whose reach is `depth` can have `count` lists."""
     if not is_possible(n, depth, count):

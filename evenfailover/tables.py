@@ -49,19 +49,27 @@ def holders(order, live, factor):
     wanted = min(factor, len(live))
     found = []
     for server in order:
-        if len(found) < wanted and server in live:
+        if len(found) >= wanted:
+            break
+        if server in live:
             found.append(server)
     if len(found) < wanted:
         raise TooShort(order)
     return tuple(found)
 
 
-def loads(n, table, live, factor):
-    """Return (members, many) for all sets of `factor` live servers: how many shards they hold."""
+def held_by_sets(table, live, factor):
+    """Return a dict from the sets that hold shards to how many they hold."""
     held = {}
     for order in table:
         members = tuple(sorted(holders(order, live, factor)))
         held[members] = held.get(members, 0) + 1
+    return held
+
+
+def loads(n, table, live, factor):
+    """Return (members, many) for all sets of `factor` live servers: how many shards they hold."""
+    held = held_by_sets(table, live, factor)
     return tuple([(members, held.get(members, 0)) for members in sets_among(live, factor)])
 
 

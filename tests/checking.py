@@ -20,6 +20,16 @@ class Checks(unittest.TestCase):
         self.assertEqual(repr(getattr(caught.exception, attribute)), repr(value))
         self.assertEqual(repr(arguments), before)
 
+    def assert_raises_quickly(self, kind, attribute, value, function, *arguments):
+        """As assert_error, without a look at the arguments afterwards: for very many calls."""
+        try:
+            function(*arguments)
+        except FailoverError as error:
+            self.assertIs(error.__class__, kind)
+            self.assertEqual(vars(error), {attribute: value})
+        else:
+            self.fail((function.__name__, arguments))
+
     def assert_interface(self, module, expected):
         """The functions have these parameters in this order and are defined in this module."""
         for name, parameters in expected.items():

@@ -93,6 +93,73 @@ def is_even(n, table, failures, factor):
     return True
 
 
+def is_set_of(n, thing):
+    """Return whether a value is a set by the very words of points [2] and [3]."""
+    if thing.__class__ is not tuple or any(server.__class__ is not int for server in thing):
+        return False
+    return list(thing) == sorted(set(thing)) and all(0 <= server < n for server in thing)
+
+
+def is_witness(n, table, failures, factor, thing):
+    """Return whether a value is a witness by the very words of point [28]."""
+    if thing.__class__ is not tuple or len(thing) != 3:
+        return False
+    if not all(is_set_of(n, members) for members in thing):
+        return False
+    live, fewer, more = thing
+    if len(live) < max(1, n - failures) or not set(fewer + more) <= set(live):
+        return False
+    many = len(fewer)
+    if len(more) != many or not 1 <= many <= min(factor, len(live)):
+        return False
+    firsts = [tuple(sorted(first_live(order, live, many))) for order in table]
+    return firsts.count(fewer) < firsts.count(more)
+
+
+def failures_and_factors(n, depth):
+    """Return (failures, factor, reach) for all failures and factors whose reach the depth allows."""
+    found = [
+        (failures, factor, min(n, failures + factor))
+        for failures in range(1, n) for factor in range(1, n + 1)
+    ]
+    return [(failures, factor, reach) for failures, factor, reach in found if reach <= depth]
+
+
+def all_lists(n, depth):
+    """Return the table of all lists of this depth, each once."""
+    return tuple(itertools.permutations(range(n), depth))
+
+
+def rotations(n, depth):
+    """Return the table of the n rotations of all servers, cut to this depth."""
+    return tuple([tuple([(start + step) % n for step in range(depth)]) for start in range(n)])
+
+
+def renamed(table, names):
+    """Return a table with each server renamed."""
+    return tuple([tuple([names[server] for server in order]) for order in table])
+
+
+def tables_beside(source, n, table):
+    """Return tables that differ a little from a table: changed, left out, repeated, in another order, renamed."""
+    depth = len(table[0])
+    at = source.randrange(len(table))
+    other = tuple(source.sample(range(n), depth))
+    swapped = list(table[at])
+    swapped[-1], swapped[-2 % depth] = swapped[-2 % depth], swapped[-1]
+    found = [
+        table[:at] + (other,) + table[at + 1:],
+        table[:at] + (tuple(swapped),) + table[at + 1:],
+        table + table[at:at + 1],
+        tuple(source.sample(table, len(table))),
+        renamed(table, source.sample(range(n), n)),
+        table + table,
+    ]
+    if len(table) > 1:
+        found.append(table[:at] + table[at + 1:])
+    return found
+
+
 def random_table(source, n, depth, many):
     """Return a table of so many lists from a source of random numbers."""
     return tuple([tuple(source.sample(range(n), depth)) for number in range(many)])

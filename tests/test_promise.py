@@ -1,24 +1,21 @@
-"""Point [7]: the promises (a), (b), (c) and (e), as far as the modules so far make them."""
+"""Point [7]: the promises (a) to (e), and of (h) what a cluster is."""
 
 import itertools
 import random
 import unittest
 
-from evenfailover.counts import found_at, held_by_server, held_by_set
+from evenfailover.cluster import Cluster
+from evenfailover.counts import copied_to, found_at, held_by_server, held_by_set
+from evenfailover.failures import copies, drops
+from evenfailover.judging import is_even, shows_uneven, uneven
 from evenfailover.levels import even_reach, is_level
 from evenfailover.lists import list_at, number_at, numbers_with, place_at
 from evenfailover.numbers import edge_divisor, is_possible, least_lists
 from evenfailover.tables import holders, loads, server_loads, standard_table
-from reference import is_even, live_sets, places, random_table, table_that_reaches
-
-
-def failures_and_factors(n, depth):
-    """Return (failures, factor, reach) for all failures and factors whose reach the depth allows."""
-    found = [
-        (failures, factor, min(n, failures + factor))
-        for failures in range(1, n) for factor in range(1, n + 1)
-    ]
-    return [(failures, factor, reach) for failures, factor, reach in found if reach <= depth]
+from reference import (
+    all_lists, failures_and_factors, live_sets, places, random_table, renamed, rotations, table_that_reaches,
+)
+from reference import is_even as even_by_definition
 
 
 def all_tables(n, depth, most):
@@ -41,10 +38,23 @@ class Criterion(unittest.TestCase):
     def check(self, n, table):
         """The table is even for the failures and factors that its levels say, and for no others."""
         for failures, factor, reach in failures_and_factors(n, len(table[0])):
-            expected = is_even(n, table, failures, factor)
+            expected = even_by_definition(n, table, failures, factor)
             self.assertIs(even_reach(n, table) >= reach, expected, (n, table, failures, factor))
             levels = [is_level(n, table, size) for size in range(reach)]
             self.assertIs(all(levels), expected, (n, table, failures, factor))
+            self.assertIs(is_even(n, table, failures, factor), expected, (n, table, failures, factor))
+            self.check_witness(n, table, failures, factor, expected)
+
+    def check_witness(self, n, table, failures, factor, even):
+        """There is a witness exactly if the table is not even, and its sets hold what it says."""
+        thing = uneven(n, table, failures, factor)
+        self.assertIs(thing is None, even, (n, table, failures, factor))
+        if thing is not None:
+            live, fewer, more = thing
+            self.assertIs(shows_uneven(n, table, failures, factor, thing), True)
+            held = dict(loads(n, table, live, len(fewer)))
+            self.assertLess(held[fewer], held[more])
+            self.assertGreaterEqual(len(live), n - failures)
 
     def test_every_small_table(self):
         for n, table in EVERY_TABLE:
@@ -72,6 +82,7 @@ class Existence(unittest.TestCase):
         even = 0
         for n, table in EVERY_TABLE:
             for failures, factor, reach in failures_and_factors(n, len(table[0])):
+                self.assertIs(is_even(n, table, failures, factor), even_by_definition(n, table, failures, factor))
                 if is_even(n, table, failures, factor):
                     even += 1
                     self.assertTrue(is_possible(n, reach, len(table)), (n, table, failures, factor))
@@ -95,6 +106,30 @@ class Existence(unittest.TestCase):
                     found[edge] = found.get(edge, 0) + many
                 self.assertEqual(len(found), edge_divisor(n, depth - 1))
                 self.assertEqual(set(found.values()), {count // edge_divisor(n, depth - 1)})
+
+
+    def test_tables_of_any_make(self):
+        source = random.Random(71)
+        even = 0
+        for n in range(3, 7):
+            for depth in range(2, n + 1):
+                whole = standard_table(n, depth, least_lists(n, depth))
+                for table in [all_lists(n, depth), rotations(n, depth), whole, whole * 2, whole[1:], whole + whole[:1]]:
+                    mixed = renamed(table, source.sample(range(n), n))
+                    mixed = tuple(source.sample(mixed, len(mixed)))
+                    for failures, factor, reach in failures_and_factors(n, depth):
+                        if is_even(n, mixed, failures, factor):
+                            even += 1
+                            self.assertEqual(len(mixed) % least_lists(n, reach), 0)
+        self.assertGreater(even, 100)
+
+    def test_two_even_tables_together_are_even(self):
+        for n in range(3, 6):
+            one = standard_table(n, n, least_lists(n, n))
+            other = renamed(one, list(range(n))[::-1])
+            for failures, factor, reach in failures_and_factors(n, n):
+                self.assertIs(is_even(n, one + other, failures, factor), True)
+                self.assertIs(is_even(n, one + other[1:], failures, factor), False)
 
 
 class Numbers(unittest.TestCase):
@@ -140,6 +175,64 @@ class Counts(unittest.TestCase):
         indexes = [order.index(holders(order, live, factor)[-1]) for order in table]
         for index in range(n):
             self.assertEqual(indexes.count(index), found_at(n, count, alive, factor, index))
+        if factor < alive:
+            for failed in live:
+                by_copy = {many for server, many in copies(n, table, live, factor, failed)}
+                self.assertEqual(by_copy, {copied_to(n, count, alive, factor)})
+
+
+class Failures(unittest.TestCase):
+    def test_only_the_replicas_of_the_failed_server_are_copied(self):
+        for n in range(2, 7):
+            one = standard_table(n, n, least_lists(n, n))
+            for table in (one, all_lists(n, n) if n < 6 else one * 2):
+                for live in live_sets(n):
+                    for factor in range(1, len(live)):
+                        self.check(n, table, live, factor)
+
+    def check(self, n, table, live, factor):
+        alive = len(live)
+        for failed in live[:2] + live[-1:]:
+            received = copies(n, table, live, factor, failed)
+            each = len(table) * factor // (alive * (alive - 1))
+            self.assertEqual(received, tuple([(server, each) for server in live if server != failed]))
+            total = sum([many for server, many in received])
+            self.assertEqual(total * alive, len(table) * factor)
+            # No placement copies fewer: whatever the failed server held needs a new place.
+            self.assertEqual(total, dict(server_loads(n, table, live, factor))[failed])
+            stay = tuple([server for server in live if server != failed])
+            self.assertEqual(drops(n, table, stay, factor, failed), received)
+
+
+class Clusters(unittest.TestCase):
+    def test_who_holds_a_shard_depends_on_the_live_servers_only(self):
+        source = random.Random(78)
+        for n in range(2, 7):
+            for failures in range(1, n):
+                for factor in range(1, n + 1):
+                    count = least_lists(n, min(n, failures + factor))
+                    self.check(source, n, failures, factor, count)
+
+    def check(self, source, n, failures, factor, count):
+        cluster = Cluster(n, failures, factor, count)
+        table = standard_table(n, min(n, failures + factor), count)
+        for step in range(12):
+            server = source.randrange(n)
+            if server not in cluster.live():
+                cluster.recover(server)
+            elif len(cluster) > n - failures:
+                cluster.fail(server)
+            live = cluster.live()
+            owners = [cluster.owners(shard) for shard in range(count)]
+            self.assertEqual(owners, [holders(order, live, factor) for order in table])
+            found = tuple([(server, cluster.load(server)) for server in live])
+            self.assertEqual(found, server_loads(n, table, live, factor))
+            fresh = Cluster(n, failures, factor, count)
+            for dead in range(n):
+                if dead not in live:
+                    fresh.fail(dead)
+            self.assertEqual(cluster, fresh)
+            self.assertEqual(owners, [fresh.owners(shard) for shard in range(count)])
 
 
 if __name__ == "__main__":

@@ -1,12 +1,13 @@
-"""Point [2]: the functions of stages 1 to 3 and the formulas of stage 7 take at most some ten thousand steps.
+"""Point [2]: some calls take at most some ten thousand steps.
 
-The document does not say what a step is: the bound holds for the rows that are run and for the
+These are the functions of stages 1 to 3, the formulas of stage 7 and the calls of stage 11. The document does not say what a step is: the bound holds for the rows that are run and for the
 instructions of the interpreter.
 """
 
 import math
 import unittest
 
+from evenfailover.cluster import Cluster
 from evenfailover.counts import copied_to, found_at, held_by_server, held_by_set
 from evenfailover.errors import FailoverError
 from evenfailover.lists import list_at, number_at, numbers_with, place_at
@@ -130,6 +131,52 @@ class Steps(unittest.TestCase):
         if factor < alive:
             for count in counts_of(depth + 1):
                 self.assert_few_steps(copied_to, 60, count, alive, factor)
+
+    def test_cluster(self):
+        for failures, factor in ((1, 1), (1, 28), (1, 60), (2, 1), (29, 1), (30, 30), (59, 1), (59, 30), (59, 60)):
+            for count in counts_of(min(60, failures + factor)):
+                self.assert_few_steps(Cluster, 60, failures, factor, count)
+                self.assert_few_steps_to_an_error(Cluster, 60, failures, factor, count + 1)
+                cluster = Cluster(60, failures, factor, count)
+                self.check_cluster(cluster, count)
+                for server in range(failures):
+                    self.assert_few_steps(cluster.fail, server)
+                    if server % 20 == 19:
+                        self.check_cluster(cluster, count)
+                self.check_cluster(cluster, count)
+                for server in range(failures):
+                    self.assert_few_steps(cluster.recover, server)
+                for change in range(2 * failures):
+                    self.assert_few_steps(cluster.undo)
+                self.assert_few_steps_to_an_error(cluster.undo)
+
+    def check_cluster(self, cluster, count):
+        for function in (cluster.live, cluster.copied, cluster.changes, cluster.copy, cluster.__len__):
+            self.assert_few_steps(function)
+        self.assert_few_steps(cluster.__eq__, cluster.copy())
+        for server in (0, 30, 59):
+            if server in cluster.live():
+                self.assert_few_steps(cluster.load, server)
+                for shard in (0, count // 2, count - 1):
+                    self.assert_few_steps(cluster.owners, shard)
+                    if len(cluster) > cluster.n - cluster.failures:
+                        self.assert_few_steps(cluster.successor, shard, server)
+                    else:
+                        self.assert_few_steps_to_an_error(cluster.successor, shard, server)
+                        self.assert_few_steps_to_an_error(cluster.fail, server)
+            else:
+                self.assert_few_steps_to_an_error(cluster.load, server)
+
+    def test_cluster_after_many_changes(self):
+        cluster = Cluster(60, 59, 30, least(60, 60))
+        for round_number in range(5000):
+            cluster.fail(7)
+            cluster.recover(7)
+        self.assertEqual(cluster.changes(), 10000)
+        self.check_cluster(cluster, least(60, 60))
+        self.assert_few_steps(cluster.fail, 7)
+        self.assert_few_steps(cluster.recover, 7)
+        self.assert_few_steps(cluster.undo)
 
 
 if __name__ == "__main__":
