@@ -5,6 +5,7 @@ from evenfailover.errors import NoCluster, NotDead, NotLive, NoUndo, TooFew
 from evenfailover.failures import successor as receiver
 from evenfailover.lists import path
 from evenfailover.numbers import check_number, check_possible, is_plain_int, reach_of
+from evenfailover.sets import joined
 from evenfailover.tables import holders
 
 LEAST_SERVERS = 2
@@ -110,7 +111,7 @@ class Cluster:
         if server in self.living:
             self.living = tuple([other for other in self.living if other != server])
         else:
-            self.living = tuple(sorted(self.living + (server,)))
+            self.living = joined(self.living, server)
 
     def check_live(self, value):
         """Raise NotLive if a value is not a live server."""

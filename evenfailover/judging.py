@@ -3,7 +3,7 @@
 from evenfailover.errors import TooShort
 from evenfailover.levels import is_level, level_numbers
 from evenfailover.numbers import reach_of
-from evenfailover.sets import is_set, outside
+from evenfailover.sets import is_set, joined, outside
 from evenfailover.tables import held_by_sets, loads
 
 
@@ -37,7 +37,7 @@ def servers_by_level_number(n, table, size):
     found = level_numbers(n, table, size)
     (members, last), most = max(found, key=lambda row: row[1])
     numbers = dict(found)
-    servers = tuple(sorted(members + (last,)))
+    servers = joined(members, last)
 
     def number_of(server):
         others = tuple([other for other in servers if other != server])

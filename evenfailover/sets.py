@@ -61,6 +61,11 @@ def outside(n, members):
     return tuple(others)
 
 
+def joined(members, server):
+    """Return the set with a server added that is not in it."""
+    return tuple(sorted(members + (server,)))
+
+
 def sets_among(servers, size):
     """Return the list of all sets of this size that an ascending tuple of servers contains, ascending."""
     beginnings = [((), 0)]

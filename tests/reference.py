@@ -76,6 +76,32 @@ def table_that_reaches(n, depth, reach):
     ])
 
 
+def all_level_numbers(table):
+    """Return a dict of all level numbers of a table that are not 0."""
+    found = {}
+    for order in table:
+        for size in range(len(order)):
+            edge = (tuple(sorted(order[:size])), order[size])
+            found[edge] = found.get(edge, 0) + 1
+    return found
+
+
+def first_unbalanced(depth, counts):
+    """Return the first set at which counts do not balance by the very words of point [46], or None."""
+    leaving = {}
+    arriving = {}
+    for (members, server), many in counts.items():
+        after = tuple(sorted(members + (server,)))
+        leaving[members] = leaving.get(members, 0) + many
+        arriving[after] = arriving.get(after, 0) + many
+    if leaving.get((), 0) == 0:
+        return ()
+    for members in sorted(set(leaving) | set(arriving), key=lambda members: (len(members), members)):
+        if 1 <= len(members) < depth and leaving.get(members, 0) != arriving.get(members, 0):
+            return members
+    return None
+
+
 def first_live(order, live, many):
     """Return the first so many live servers of a list, fewer if it has fewer."""
     return tuple([server for server in order if server in live][:many])

@@ -6,13 +6,15 @@ import pathlib
 import re
 import unittest
 
+from evenfailover import errors
+
 PACKAGE = pathlib.Path(__file__).resolve().parent.parent / "evenfailover"
 BARRED_WORDS = (
     "type typing typing_extensions enum Enum IntEnum StrEnum Flag IntFlag Generic Protocol ABC "
     "ABCMeta namedtuple NamedTuple TypedDict TYPE_CHECKING abstractmethod"
 ).split()
 BARRED_PARTS = ("dataclass", "overload", "contextmanager")
-BARRED_NODES = (ast.Global, ast.AsyncFunctionDef, ast.Import, ast.Div, ast.GeneratorExp, ast.Try, ast.Yield)
+BARRED_NODES = (ast.Global, ast.AsyncFunctionDef, ast.Import, ast.Div, ast.GeneratorExp, ast.Yield, ast.JoinedStr)
 BUILTINS = (
     "len range enumerate zip min max sum abs sorted reversed int str bool list tuple dict set "
     "isinstance ord repr any all divmod ValueError"
@@ -111,6 +113,14 @@ class Language(unittest.TestCase):
             for node in ast.walk(tree):
                 if isinstance(node, ast.Attribute):
                     self.assertIn(node.attr, methods | attributes | set(METHODS), name)
+
+    def test_only_own_errors_are_caught(self):
+        for name, tree in trees():
+            for node in ast.walk(tree):
+                if isinstance(node, ast.ExceptHandler):
+                    kinds = node.type.elts if isinstance(node.type, ast.Tuple) else [node.type]
+                    for kind in kinds:
+                        self.assertEqual(getattr(errors, kind.id).__module__, "evenfailover.errors", name)
 
     def test_builtins(self):
         for name, tree in trees():

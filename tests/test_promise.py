@@ -1,4 +1,4 @@
-"""Point [7]: the promises (a) to (e), and of (h) what a cluster is."""
+"""Point [7]: the promises (a) to (e), and of (h) what a cluster is; test_whole.py has the rest."""
 
 import itertools
 import random
