@@ -1,7 +1,7 @@
 """Tables from level numbers."""
 
 from evenfailover.errors import TooMany, Unbalanced
-from evenfailover.levels import level_numbers
+from evenfailover.levels import count_level
 from evenfailover.sets import joined
 from evenfailover.tables import MOST_LISTS, is_table
 
@@ -66,6 +66,7 @@ def shows_table(n, depth, counts, thing):
         return False
     found = {}
     for size in range(depth):
-        for edge, many in level_numbers(n, thing, size):
-            found[edge] = many
+        numbers = count_level(thing, size)
+        for edge in numbers:
+            found[edge] = numbers[edge]
     return found == entries_above_zero(depth, counts)

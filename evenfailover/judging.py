@@ -1,7 +1,7 @@
 """Tables judged: whether they are even, and witnesses that they are not."""
 
 from evenfailover.errors import TooShort
-from evenfailover.levels import is_level, level_numbers
+from evenfailover.levels import count_level, is_level
 from evenfailover.numbers import reach_of
 from evenfailover.sets import is_set, joined, outside
 from evenfailover.tables import held_by_sets, loads
@@ -28,15 +28,14 @@ def is_even(n, table, failures, factor):
     return first_uneven_level(n, table, failures, factor) is None
 
 
-def servers_by_level_number(n, table, size):
+def servers_by_level_number(table, size):
     """Return size + 1 servers, each by how many lists it follows all the others in, the fewest first.
 
     They belong to the greatest level number, so where the level is not level, not all of them
     follow the others in as many lists as the average.
     """
-    found = level_numbers(n, table, size)
-    (members, last), most = max(found, key=lambda row: row[1])
-    numbers = dict(found)
+    numbers = count_level(table, size)
+    members, last = max(list(numbers), key=lambda edge: numbers[edge])
     servers = joined(members, last)
 
     def number_of(server):
@@ -64,7 +63,7 @@ def witness_at(n, table, size, factor):
     R, the others of D and R before it. So R holds another number than the average if these
     level numbers do not add up to their average, and of `servers`, the first or the last do not.
     """
-    servers = servers_by_level_number(n, table, size)
+    servers = servers_by_level_number(table, size)
     # At level 0 no server need fail. Otherwise one must, or more if the factor is too small.
     dead = 0 if size == 0 else max(1, size + 1 - factor)
     held = size + 1 - dead

@@ -116,6 +116,7 @@ class StandardTable(Checks):
         self.assertEqual(standard_table(2, 2, 4), ((0, 1), (0, 1), (1, 0), (1, 0)))
         self.assert_error(NotPossible, "count", 4, standard_table, 3, 3, 4)
         self.assert_error(TooMany, "count", 5002, standard_table, 2, 1, 5002)
+        self.assert_error(TooMany, "count", 5001, standard_table, 3, 1, 5001)
 
     def test_all_lists_in_order(self):
         for n, depth, count in small_tables() + [(7, 7, 420), (10, 10, 2520), (60, 1, 60), (60, 2, 3540)]:
